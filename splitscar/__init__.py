@@ -1,0 +1,1 @@
+"""Splitscar: an index store whose pages are evidence."""

@@ -1,0 +1,83 @@
+"""Trees: a rule with levels of it."""
+
+from splitscar.errors import InvalidTree, NoPage
+from splitscar.kinds import is_index
+from splitscar.levels import is_levels, keys_of, spot_of
+from splitscar.puts import with_key, with_keys, without_key
+from splitscar.reader import read_levels
+from splitscar.texts import show_levels
+
+
+class Tree:
+    """A tree that never changes: a put or a strike gives another one."""
+
+    def __init__(self, rule, levels=(((),),)):
+        if not is_levels(rule, levels):
+            raise InvalidTree()
+        self._rule = rule
+        self._levels = levels
+        self._stored = keys_of(levels)
+
+    @property
+    def rule(self):
+        return self._rule
+
+    @property
+    def levels(self):
+        return self._levels
+
+    @property
+    def stored(self):
+        return self._stored
+
+    @property
+    def depth(self):
+        return len(self._levels)
+
+    def walk(self):
+        """Yields (level, page, integers) for each page, level by level, from the left."""
+        for level, pages in enumerate(self._levels):
+            for page, integers in enumerate(pages):
+                yield level, page, integers
+
+    def __getitem__(self, at):
+        level, page = at
+        if not is_index(level, len(self._levels)):
+            raise NoPage(level, page)
+        if not is_index(page, len(self._levels[level])):
+            raise NoPage(level, page)
+        return self._levels[level][page]
+
+    def __iter__(self):
+        raise TypeError("a tree is not iterated over: use walk() or stored")
+
+    def __add__(self, other):
+        return Tree(self._rule, with_key(self._rule, self._levels, other))
+
+    def __sub__(self, other):
+        return Tree(self._rule, without_key(self._levels, other))
+
+    def __contains__(self, x):
+        return spot_of(self._levels, x) is not None
+
+    def __len__(self):
+        return len(self._stored)
+
+    @classmethod
+    def grown(cls, rule, *keys):
+        """The tree that puts of the keys, one after another, make of the empty one."""
+        return cls(rule, with_keys(rule, keys))
+
+    @classmethod
+    def read(cls, rule, text):
+        """The tree of a text of levels."""
+        return cls(rule, read_levels(rule, text))
+
+    def __eq__(self, other):
+        return isinstance(other, Tree) and self._rule == other._rule and self._levels == other._levels
+
+    def __str__(self):
+        return str(show_levels(self._levels))
+
+    def __repr__(self):
+        return f"Tree({len(self._stored)} keys, {len(self._levels)} levels)"
