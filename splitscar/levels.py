@@ -6,7 +6,7 @@ from splitscar.kinds import is_ascending, is_key
 
 def is_levels(rule, value):
     """Whether any value is levels of the rule."""
-    return has_form(value) and has_sizes(rule, value) and has_order(value)
+    return has_form(value) and sizes_fit(rule, sizes_of(value)) and has_order(value)
 
 
 def has_form(value):
@@ -24,17 +24,15 @@ def is_page(value):
     return isinstance(value, tuple) and all([is_key(item) for item in value])
 
 
-def has_sizes(rule, levels):
-    """Whether no page is too full, and each level has just the pages below the one above it."""
+def sizes_fit(rule, sizes):
+    """Whether no size is too great or too small, and each level has just the pages below the one above it."""
     many = 1
-    for pages in levels[:-1]:
-        if len(pages) != many:
+    for row in sizes[:-1]:
+        if len(row) != many or not all([2 <= size <= rule.page_most for size in row]):
             return False
-        if not all([2 <= len(page) + 1 <= rule.page_most for page in pages]):
-            return False
-        many = sum([len(page) + 1 for page in pages])
-    leaves = levels[-1]
-    return len(leaves) == many and all([len(leaf) <= rule.leaf_most for leaf in leaves])
+        many = sum(row)
+    leaves = sizes[-1]
+    return len(leaves) == many and all([0 <= size <= rule.leaf_most for size in leaves])
 
 
 def has_order(levels):

@@ -6,6 +6,10 @@ import inspect
 import pathlib
 import unittest
 
+from splitscar.faults import faults
+from splitscar.ripeness import ripe_pages
+from splitscar.trees import Tree
+
 FOLDER = pathlib.Path(__file__).resolve().parent.parent / "splitscar"
 
 FUNCTIONS = {
@@ -15,6 +19,19 @@ FUNCTIONS = {
     },
     "reader": {"read_levels": "rule text", "read_file": "text"},
     "texts": {"show_levels": "levels", "show_image": "image", "show_file": "file", "table_of": "tree"},
+    "shapes": {
+        "is_shape": "rule value", "shape_of": "levels", "mirrored_sizes": "sizes", "pages_below": "sizes level page",
+    },
+    "ripeness": {
+        "kept_page": "rule sizes level", "leading": "rule sizes level page", "is_ripe": "rule sizes level page",
+        "ripe_pages": "rule sizes",
+    },
+    "faults": {
+        "faults": "rule shape", "fault": "rule shape", "tree_fault": "tree", "shows_fault": "rule shape value",
+    },
+    "leads": {"leads": "rule shape", "shows_grown": "rule shape value"},
+    "shrinking": {"order_of": "tree"},
+    "ordercheck": {"shows_order": "tree value", "first_apart": "tree keys"},
 }
 
 CLASSES = {
@@ -77,8 +94,8 @@ class Interface(unittest.TestCase):
                         self.assertIsInstance(inspect.getattr_static(made, method), property, (name, method))
 
     def test_generators(self):
-        from splitscar.trees import Tree
-        self.assertTrue(inspect.isgeneratorfunction(Tree.walk))
+        for work in (Tree.walk, ripe_pages, faults):
+            self.assertTrue(inspect.isgeneratorfunction(work))
 
 
 if __name__ == "__main__":
