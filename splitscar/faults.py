@@ -55,4 +55,5 @@ def shows_fault(rule, shape, value):
     level, page, word = value
     if not is_integer(level) or not is_integer(page) or not isinstance(word, str):
         return False
-    return value in list(faults(rule, shape))
+    every = list(faults(rule, shape))
+    return value in every

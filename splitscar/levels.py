@@ -78,9 +78,9 @@ def sizes_of(levels):
     return (*upper, tuple([len(leaf) for leaf in levels[-1]]))
 
 
-def index_below(separators, key):
-    """The index, among the pages below a page, of the one to which a key goes."""
-    return len([separator for separator in separators if separator <= key])
+def index_below(integers, key):
+    """How many integers are not greater: the index, among the pages below, of the one to which a key goes."""
+    return len([integer for integer in integers if integer <= key])
 
 
 def way_down(levels, key):
@@ -109,7 +109,7 @@ def spot_of(levels, key):
     leaf = levels[-1][at]
     if key not in leaf:
         return None
-    return at, leaf.index(key)
+    return at, index_below(leaf, key) - 1
 
 
 def ghosts_of(levels):

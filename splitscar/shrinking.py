@@ -8,7 +8,7 @@ and the other one long. The key that is then taken is one whose put split them.
 from splitscar.errors import NotGrown
 from splitscar.faults import tree_fault
 from splitscar.levels import sizes_of
-from splitscar.ripeness import leading, ripe_lead, ripe_rows
+from splitscar.ripeness import ripe_lead, ripe_rows
 from splitscar.shapes import pages_below
 
 
@@ -87,7 +87,8 @@ def lead_place(rule, sizes, ripe, level, page):
     lower = ripe_lead(rule, sizes, ripe, level, page)
     if lower is None:
         return None
-    return leading(rule, sizes, level, page).index(lower)
+    start, end = pages_below(sizes, level, page)
+    return lower - start if rule.keeps_left else end - 1 - lower
 
 
 def order_of(tree):

@@ -44,9 +44,9 @@ def kind_at(first, again, place):
 def is_whole(first, again, many):
     """Whether a line may end after so many words."""
     rest = many - len(first)
-    if rest <= 0 or not again:
+    if not again:
         return rest == 0
-    return rest % len(again) == 0
+    return rest >= 0 and rest % len(again) == 0
 
 
 def read_word(kind, word):

@@ -40,8 +40,9 @@ def changes(table):
                 yield tuple(rows[:at] + [tuple(row)] + rows[at + 1:])
             row[place] = -1
             yield tuple(rows[:at] + [tuple(row)] + rows[at + 1:])
-            row[place] = 99
-            yield tuple(rows[:at] + [tuple(row)] + rows[at + 1:])
+            for number in (2, 3, 4, 5, 6, 99):
+                row[place] = number
+                yield tuple(rows[:at] + [tuple(row)] + rows[at + 1:])
     if len(rows) > 1:
         yield tuple(rows[::-1])
         yield tuple(rows[1:] + rows[:1])
@@ -106,6 +107,7 @@ class ShowsGrown(unittest.TestCase):
             ((1, 1, 3), (2, 3, 7)), ((1, 1, 3), (2, 3, 9)), ((1, 1, 3), (2, 3, 8), (2, 3, 8)), [(1, 1, 3), (2, 3, 8)],
             ((1, 1, 3), [2, 3, 8]), ((True, 1, 3), (2, 3, 8)), ((1, True, 3), (2, 3, 8)), ((0, 0, 0), (1, 1, 3), (2, 3, 8)),
             ((0, 0, 0), (1, 0, 0), (1, 1, 3), (2, 0, 0), (2, 3, 8)), ((1, 1, 3), (2, 3, 8), (3, 8, 0)), None, 5, "ab",
+            ((1, 1, 3), (2, 3, 8), (4, 0, 0)), ((1, 1, 3), (2, 3, 8), (5, 0, 0)), ((1, 1, 3), (2, 3, 8), (2, 7, 16)),
         ]:
             self.assertIs(shows_grown(LEFT, DEEP, value), False, value)
         self.assertIs(shows_grown(rule=LEFT, shape=DEEP, value=((1, 1, 3), (2, 3, 8))), True)

@@ -179,6 +179,10 @@ class Files(ReadingCase):
             if not isinstance(value, str):
                 self.refused(read_file, value, 0, 0)
 
+    def test_other_digits(self):
+        self.refused(read_file, "head \u0663 0", 0, 1)
+        self.refused(small_levels, "\u00b2", 0, 0)
+
     def test_fifteen_digits(self):
         nines = "9" * 15
         text = f"leaf {nines} -{nines} @{nines}:{nines}"
