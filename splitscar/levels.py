@@ -79,8 +79,15 @@ def sizes_of(levels):
 
 
 def index_below(integers, key):
-    """How many integers are not greater: the index, among the pages below, of the one to which a key goes."""
-    return len([integer for integer in integers if integer <= key])
+    """How many of ascending integers are not greater: the index, among the pages below, of the one for a key."""
+    low, high = 0, len(integers)
+    while low < high:
+        middle = (low + high) // 2
+        if integers[middle] <= key:
+            low = middle + 1
+        else:
+            high = middle
+    return low
 
 
 def way_down(levels, key):

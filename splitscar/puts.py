@@ -2,32 +2,35 @@
 
 from splitscar.errors import InvalidKey, NoKey, Present
 from splitscar.kinds import is_key
-from splitscar.levels import index_below, spot_of, way_down
+from splitscar.levels import index_below, way_down
 
 
 def with_key(rule, levels, key):
     """The levels with a key put."""
     if not is_key(key):
         raise InvalidKey(key)
-    if spot_of(levels, key) is not None:
-        raise Present(key)
     way = way_down(levels, key)
-    pages, up = parted_leaf(rule, inserted(levels[-1][way[-1]], key))
+    leaf = levels[-1][way[-1]]
+    if key in leaf:
+        raise Present(key)
+    pages, up = parted_leaf(rule, inserted(leaf, key))
     upwards = [replaced(levels[-1], way[-1], pages)]
-    for level in range(len(levels) - 2, -1, -1):
+    level = len(levels) - 2
+    while up and level >= 0:
         page = levels[level][way[level]]
         at = index_below(page, key)
         pages, up = parted_page(rule, page[:at] + up + page[at:])
         upwards.append(replaced(levels[level], way[level], pages))
+        level = level - 1
     if up:
         upwards.append((up,))
-    return tuple(upwards[::-1])
+    return levels[:level + 1] + tuple(upwards[::-1])
 
 
-def inserted(leaf, key):
-    """The keys of a leaf with one more, in ascending order."""
-    at = index_below(leaf, key)
-    return leaf[:at] + (key,) + leaf[at:]
+def inserted(row, key):
+    """A row of keys with one more, in ascending order."""
+    at = index_below(row, key)
+    return row[:at] + (key,) + row[at:]
 
 
 def parted_leaf(rule, keys):
@@ -55,13 +58,17 @@ def without_key(levels, key):
     """The levels with a key struck."""
     if not is_key(key):
         raise InvalidKey(key)
-    spot = spot_of(levels, key)
-    if spot is None:
-        raise NoKey(key)
-    page, place = spot
+    page = way_down(levels, key)[-1]
     leaf = levels[-1][page]
-    rest = leaf[:place] + leaf[place + 1:]
-    return levels[:-1] + (replaced(levels[-1], page, (rest,)),)
+    if key not in leaf:
+        raise NoKey(key)
+    return levels[:-1] + (replaced(levels[-1], page, (removed(leaf, key),)),)
+
+
+def removed(row, integer):
+    """An ascending row without one of its integers."""
+    at = index_below(row, integer)
+    return row[:at - 1] + row[at:]
 
 
 def with_keys(rule, keys):

@@ -3,20 +3,32 @@
 from splitscar.errors import InvalidTree, NoPage
 from splitscar.kinds import is_index
 from splitscar.levels import is_levels, keys_of, spot_of
-from splitscar.puts import with_key, with_keys, without_key
+from splitscar.puts import inserted, removed, with_key, with_keys, without_key
 from splitscar.reader import read_levels
 from splitscar.texts import show_levels
+
+
+class KnownLevels:
+    """Levels that surely are of the rule, so that a tree of them need not look: a look takes longer than a put."""
+
+    def __init__(self, levels, stored):
+        self._levels = levels
+        self._stored = stored
 
 
 class Tree:
     """A tree that never changes: a put or a strike gives another one."""
 
     def __init__(self, rule, levels=(((),),)):
-        if not is_levels(rule, levels):
-            raise InvalidTree()
         self._rule = rule
-        self._levels = levels
-        self._stored = keys_of(levels)
+        if isinstance(levels, KnownLevels):
+            self._levels = levels._levels
+            self._stored = levels._stored
+        elif is_levels(rule, levels):
+            self._levels = levels
+            self._stored = keys_of(levels)
+        else:
+            raise InvalidTree()
 
     @property
     def rule(self):
@@ -52,10 +64,12 @@ class Tree:
         raise TypeError("a tree is not iterated over: use walk() or stored")
 
     def __add__(self, other):
-        return Tree(self._rule, with_key(self._rule, self._levels, other))
+        levels = with_key(self._rule, self._levels, other)
+        return Tree(self._rule, KnownLevels(levels, inserted(self._stored, other)))
 
     def __sub__(self, other):
-        return Tree(self._rule, without_key(self._levels, other))
+        levels = without_key(self._levels, other)
+        return Tree(self._rule, KnownLevels(levels, removed(self._stored, other)))
 
     def __contains__(self, x):
         return spot_of(self._levels, x) is not None
@@ -66,12 +80,14 @@ class Tree:
     @classmethod
     def grown(cls, rule, *keys):
         """The tree that puts of the keys, one after another, make of the empty one."""
-        return cls(rule, with_keys(rule, keys))
+        levels = with_keys(rule, keys)
+        return cls(rule, KnownLevels(levels, keys_of(levels)))
 
     @classmethod
     def read(cls, rule, text):
         """The tree of a text of levels."""
-        return cls(rule, read_levels(rule, text))
+        levels = read_levels(rule, text)
+        return cls(rule, KnownLevels(levels, keys_of(levels)))
 
     def __eq__(self, other):
         return isinstance(other, Tree) and self._rule == other._rule and self._levels == other._levels
