@@ -1,6 +1,7 @@
 """Checks of the kinds of values, with which any value can be looked at."""
 
 KEY_MOST = 999999999999999
+KEY_LEAST = -999999999999999
 
 
 def is_integer(value):
@@ -10,7 +11,7 @@ def is_integer(value):
 
 def is_key(value):
     """Whether a value is an integer of at most 15 digits."""
-    return is_integer(value) and -KEY_MOST <= value <= KEY_MOST
+    return is_integer(value) and KEY_LEAST <= value <= KEY_MOST
 
 
 def is_index(value, many):

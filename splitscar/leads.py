@@ -13,12 +13,17 @@ def leads(rule, shape):
         raise NotGrown(found)
     sizes = shape[0]
     ripe = ripe_rows(rule, sizes)
+    return rows_of_leads(rule, sizes, lambda level, page: ripe_lead(rule, sizes, ripe, level, page))
+
+
+def rows_of_leads(rule, sizes, lead_of):
+    """The tuple of a row for each page that is asked, and for each lower page that is not a leaf."""
     lower_pages = {}
     rows = []
     for level in range(len(sizes) - 1):
         for page in range(len(sizes[level])):
             if is_asked(rule, sizes, level, page) or (level, page) in lower_pages:
-                lower = ripe_lead(rule, sizes, ripe, level, page)
+                lower = lead_of(level, page)
                 rows.append((level, page, lower))
                 lower_pages[(level + 1, lower)] = True
     return tuple(rows)

@@ -38,7 +38,11 @@ def is_asked(rule, sizes, level, page):
 
 def ripe_rows(rule, sizes):
     """For each level, from the top, the list of whether its pages are ripe."""
-    row = [size >= rule.leaf_long for size in sizes[-1]]
+    return rows_above(rule, sizes, [size >= rule.leaf_long for size in sizes[-1]])
+
+
+def rows_above(rule, sizes, row):
+    """For each level, from the top, the list of whether its pages are ripe, if it is this one for the leaves."""
     upwards = [row]
     for level in range(len(sizes) - 2, -1, -1):
         row = ripe_above(rule, sizes, level, row)

@@ -16,6 +16,11 @@ class KnownLevels:
         self._stored = stored
 
 
+def known_tree(rule, levels):
+    """The tree of levels that surely are of the rule."""
+    return Tree(rule, KnownLevels(levels, keys_of(levels)))
+
+
 class Tree:
     """A tree that never changes: a put or a strike gives another one."""
 

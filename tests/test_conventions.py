@@ -3,14 +3,26 @@
 import copy
 import unittest
 
-from splitscar.errors import InvalidKey, InvalidRule, InvalidText, InvalidTree, NoPage
+from splitscar.before import before, count_before, is_before
+from splitscar.betweencheck import shows_way
+from splitscar.commits import entry_of
+from splitscar.deeds import is_deed
+from splitscar.entries import is_entry, is_row
+from splitscar.errors import (
+    InvalidDeed, InvalidKey, InvalidMost, InvalidRule, InvalidText, InvalidTree, InvalidValue, NoKey, NoPage, NotWritten,
+    WrongStep,
+)
 from splitscar.faults import shows_fault
+from splitscar.images import empty_file, is_image
 from splitscar.leads import shows_grown
 from splitscar.levels import is_levels, leaf_for, spot_of
+from splitscar.media import Media
 from splitscar.ordercheck import shows_order
 from splitscar.reader import read_file, read_levels
 from splitscar.rules import Rule
+from splitscar.scans import records_in, value_of
 from splitscar.shapes import is_shape, pages_below
+from splitscar.store import GuardedStore, assign_most
 from splitscar.trees import Tree
 
 from tests.helpers import ODD_VALUES, same
@@ -18,6 +30,8 @@ from tests.helpers import ODD_VALUES, same
 RULE = Rule(2, 1, 2, 2)
 TREE = Tree.grown(RULE, 1, 2, 3)
 SHAPE = (((2,), (2, 1)), ())
+STORE = GuardedStore(RULE)
+MEDIA = Media.blank()
 
 
 def nested(value, depth):
@@ -41,6 +55,17 @@ WHETHER = {
     "shows_order": lambda value: shows_order(TREE, value),
     "equal rules": lambda value: RULE == value,
     "equal trees": lambda value: TREE == value,
+    "is_before": lambda value: is_before(TREE, 1, value),
+    "shows_way": lambda value: shows_way(TREE, TREE + 4, value),
+    "a way": lambda value: shows_way(TREE, TREE + 4, ("way", value)),
+    "a closed set": lambda value: shows_way(TREE, TREE + 4, ("never", value)),
+    "is_image": lambda value: is_image(value),
+    "is_deed": lambda value: is_deed(value),
+    "is_row": lambda value: is_row(value),
+    "is_entry": lambda value: is_entry(value),
+    "in a store": lambda value: value in STORE,
+    "equal stores": lambda value: STORE == value,
+    "equal media": lambda value: MEDIA == value,
 }
 
 REFUSING = {
@@ -55,6 +80,19 @@ REFUSING = {
     "grown": (lambda value: Tree.grown(RULE, value), InvalidKey),
     "item": (lambda value: TREE[value, 0], NoPage),
     "pages_below": (lambda value: pages_below(SHAPE[0], 0, value), NoPage),
+    "before": (lambda value: list(before(TREE, value)), NoKey),
+    "count_before": (lambda value: count_before(TREE, value), NoKey),
+    "key of is_before": (lambda value: is_before(TREE, value, TREE.levels), NoKey),
+    "value_of": (lambda value: value_of(empty_file(), value), NoKey),
+    "entry_of": (lambda value: entry_of(RULE, empty_file(), value), InvalidDeed),
+    "do": (lambda value: STORE.do(value), InvalidDeed),
+    "put a key": (lambda value: STORE.put(value, ""), InvalidKey),
+    "strike a key": (lambda value: STORE.strike(value), NoKey),
+    "strike a range": (lambda value: STORE.strike_range(0, value), InvalidKey),
+    "item of a store": (lambda value: STORE[value], NoKey),
+    "wrote": (lambda value: MEDIA.wrote(value), WrongStep),
+    "flushed": (lambda value: MEDIA.flushed(value), WrongStep),
+    "damaged": (lambda value: MEDIA.damaged(value), NotWritten),
 }
 
 
@@ -78,6 +116,25 @@ class AnyValues(unittest.TestCase):
                     work(value)
                 self.assertTrue(same(value, before), name)
         self.assertEqual(TREE, Tree.grown(RULE, 1, 2, 3))
+        self.assertEqual(STORE, GuardedStore(RULE))
+        self.assertEqual(MEDIA, Media.blank())
+
+    def test_bounds_of_which_none_is_none(self):
+        refusing = [
+            (lambda value: list(records_in(empty_file(), low=value)), InvalidKey),
+            (lambda value: list(STORE.scan(high=value)), InvalidKey),
+            (lambda value: assign_most(STORE, value), InvalidMost),
+            (lambda value: GuardedStore(RULE, most=value), InvalidMost),
+            (lambda value: STORE.put(1, value), InvalidValue),
+        ]
+        for work, error in refusing:
+            for value in VALUES:
+                if value is None or type(value) is int or type(value) is str and len(value) < 41 and "\n" not in value:
+                    continue
+                before_it = copy.deepcopy(value)
+                with self.assertRaises(error):
+                    work(value)
+                self.assertTrue(same(value, before_it))
 
     def test_spots(self):
         for value in VALUES:

@@ -6,8 +6,12 @@ import inspect
 import pathlib
 import unittest
 
+from splitscar.before import before
 from splitscar.faults import faults
+from splitscar.images import tree_pages
 from splitscar.ripeness import ripe_pages
+from splitscar.scans import records_in
+from splitscar.store import Store
 from splitscar.trees import Tree
 
 FOLDER = pathlib.Path(__file__).resolve().parent.parent / "splitscar"
@@ -32,6 +36,29 @@ FUNCTIONS = {
     "leads": {"leads": "rule shape", "shows_grown": "rule shape value"},
     "shrinking": {"order_of": "tree"},
     "ordercheck": {"shows_order": "tree value", "first_apart": "tree keys"},
+    "before": {"before": "tree key", "count_before": "tree key", "is_before": "tree key value"},
+    "between": {"way_between": "tree later * limit", "count_ways": "tree later * limit"},
+    "betweencheck": {"shows_way": "tree later value"},
+    "strikes": {"needs": "rule shape rooms"},
+    "packing": {"packed_levels": "rule keys", "least_pages": "rule many"},
+    "images": {
+        "is_image": "value", "empty_file": "", "levels_of": "file", "tree_pages": "file", "path_to": "file key",
+    },
+    "deeds": {"is_deed": "value"},
+    "entries": {"changes_between": "file later", "is_row": "value", "is_entry": "value"},
+    "scans": {
+        "records_in": "file * low high", "table_of": "file", "value_of": "file key", "keys_between": "file low high",
+    },
+    "commits": {"entry_of": "rule file deed", "applied": "file *entries"},
+    "rooms": {
+        "rooms_of": "tree", "fewest_strikes": "tree", "strike_rows": "tree", "least_deeds": "tree",
+        "surely_struck": "tree",
+    },
+    "store": {"assign_most": "store value"},
+}
+
+DEFAULTS = {
+    ("between", "way_between"): [500], ("between", "count_ways"): [500], ("scans", "records_in"): [None, None],
 }
 
 CLASSES = {
@@ -52,7 +79,28 @@ CLASSES = {
             "__eq__": "self other", "__str__": "self", "__repr__": "self",
         },
     },
+    "store": {
+        "Store": {
+            "__init__": "self rule", "of": "cls rule file", "do": "self deed", "put": "self key value",
+            "strike": "self key", "strike_range": "self low high", "rebuild": "self", "rule": "self", "file": "self",
+            "levels": "self", "table": "self", "commit": "self", "born": "self", "last": "self",
+            "__getitem__": "self at", "__contains__": "self x", "__len__": "self", "scan": "self * low high",
+            "twin": "self", "trial": "self", "tried": "self work", "__eq__": "self other", "__repr__": "self",
+        },
+        "CountingStore": {"puts": "self", "struck": "self", "replaced": "self", "splits": "self"},
+        "GuardedStore": {"__init__": "self rule * most", "of": "cls rule file", "fewest": "self", "most": "self"},
+    },
+    "media": {
+        "Media": {
+            "of": "cls file", "blank": "cls", "pages": "self", "base": "self", "log": "self", "entries": "self",
+            "last": "self", "dirty": "self", "wrote": "self entry", "flushed": "self page", "cut": "self",
+            "after": "self *steps", "checkpoint": "self", "damaged": "self *pages", "__eq__": "self other",
+            "__repr__": "self",
+        },
+    },
 }
+
+NO_PROPERTIES = ("mirrored", "walk", "rebuild", "twin", "trial", "cut", "checkpoint")
 
 
 def arguments_of(node):
@@ -60,6 +108,8 @@ def arguments_of(node):
     words = [part.arg for part in node.args.posonlyargs + node.args.args]
     if node.args.vararg is not None:
         words.append("*" + node.args.vararg.arg)
+    elif node.args.kwonlyargs:
+        words.append("*")
     return " ".join(words + [part.arg for part in node.args.kwonlyargs])
 
 
@@ -76,12 +126,17 @@ class Interface(unittest.TestCase):
             for name, words in functions.items():
                 self.assertEqual(arguments_of(found[name]), words, (module, name))
                 self.assertTrue(callable(getattr(importlib.import_module("splitscar." + module), name)))
+                defaults = found[name].args.defaults + found[name].args.kw_defaults
+                right = DEFAULTS.get((module, name), [])
+                self.assertEqual([ast.literal_eval(value) for value in defaults], right, (module, name))
 
     def test_classes(self):
         for module, classes in CLASSES.items():
             found = defined_in(module, ast.ClassDef)
             for name, methods in classes.items():
-                own = {part.name: part for part in found[name].body if isinstance(part, ast.FunctionDef)}
+                parts = [part for part in found[name].body if isinstance(part, ast.FunctionDef)]
+                # A setter has the name of its property, which stands before it.
+                own = {part.name: part for part in reversed(parts)}
                 for method, words in methods.items():
                     self.assertEqual(arguments_of(own[method]), words, (module, name, method))
 
@@ -90,11 +145,11 @@ class Interface(unittest.TestCase):
             for name, methods in classes.items():
                 made = getattr(importlib.import_module("splitscar." + module), name)
                 for method, words in methods.items():
-                    if words == "self" and not method.startswith("__") and method not in ("mirrored", "walk"):
+                    if words == "self" and not method.startswith("__") and method not in NO_PROPERTIES:
                         self.assertIsInstance(inspect.getattr_static(made, method), property, (name, method))
 
     def test_generators(self):
-        for work in (Tree.walk, ripe_pages, faults):
+        for work in (Tree.walk, ripe_pages, faults, before, tree_pages, records_in, Store.scan):
             self.assertTrue(inspect.isgeneratorfunction(work))
 
 

@@ -80,6 +80,16 @@ def own_methods():
     return found
 
 
+def setters():
+    """The names of the properties that can be assigned."""
+    found = set()
+    for _, _, tree in parsed():
+        for node in ast.walk(tree):
+            if isinstance(node, ast.FunctionDef):
+                found |= {part.value.id for part in node.decorator_list if getattr(part, "attr", None) == "setter"}
+    return found
+
+
 def generators():
     """The names of all functions and methods that yield."""
     found = set()
@@ -262,7 +272,7 @@ class Code(unittest.TestCase):
                     self.assertIn(id(node), iterated, (path, node.lineno))
 
     def test_no_name_is_a_method_and_an_attribute(self):
-        methods = own_methods()
+        methods = own_methods() - setters()
         for path, _, tree in parsed():
             for node in ast.walk(tree):
                 if isinstance(node, ast.Attribute) and isinstance(node.ctx, ast.Store):
