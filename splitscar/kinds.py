@@ -27,3 +27,14 @@ def are_integers(value):
 def is_ascending(row):
     """Whether each integer of a row is greater than the one before it."""
     return all([low < high for low, high in zip(row, row[1:])])
+
+
+def is_same(known, value):
+    """Whether any value is a known one, a tuple at any depth: of the same kinds throughout, since True equals 1."""
+    if isinstance(known, tuple):
+        if not isinstance(value, tuple) or len(value) != len(known):
+            return False
+        return all([is_same(part, other) for part, other in zip(known, value)])
+    if isinstance(known, str):
+        return isinstance(value, str) and value == known
+    return value is None if known is None else is_integer(value) and value == known

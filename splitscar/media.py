@@ -110,12 +110,27 @@ class Media:
 
     def damaged(self, *pages):
         """The media with torn images of these pages."""
-        images = dict(self._pages)
         for page in pages:
-            if not is_integer(page) or page not in images:
+            if not is_integer(page) or page not in self._pages:
                 raise NotWritten(page)
-            images[page] = TORN
-        return Media(images, self._base, self._log, self._latest)
+        return self.with_torn_pages(pages)
+
+    def with_torn_pages(self, pages):
+        """The media with torn images of these pages, which need not be written before."""
+        torn = {page: TORN for page in pages}
+        return Media({**self._pages, **torn}, self._base, self._log, self._latest)
+
+    def with_torn_log(self):
+        """The media with the torn part of an entry at the end of the log."""
+        return Media(self._pages, self._base, self._log + (TORN,), self._latest)
+
+    def without_torn_log(self):
+        """The media without such a part."""
+        return Media(self._pages, self._base, self.entries, self._latest)
+
+    def last_image(self, page):
+        """The last image of a page, torn if it is so on the media, or None if there is none."""
+        return self._latest.get(page, self._pages.get(page))
 
     def __eq__(self, other):
         if not isinstance(other, Media):

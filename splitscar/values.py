@@ -1,6 +1,6 @@
 """Values of records, and how a file holds them: short ones as themselves, longer ones in pieces."""
 
-from splitscar.kinds import is_index, is_integer
+from splitscar.kinds import is_ascending, is_index, is_integer, is_key
 
 SHORT_MOST = 8
 VALUE_MOST = 40
@@ -10,6 +10,21 @@ PERCENT = 37
 def is_value(value):
     """Whether any value is a value of a record."""
     return is_text(value, 0, VALUE_MOST)
+
+
+def are_records(value):
+    """Whether any value is a tuple of records, in any order."""
+    return isinstance(value, tuple) and all([is_record(record) for record in value])
+
+
+def is_record(value):
+    """Whether a value is a pair of a key and a value."""
+    return isinstance(value, tuple) and len(value) == 2 and is_key(value[0]) and is_value(value[1])
+
+
+def is_table(value):
+    """Whether any value is a table."""
+    return are_records(value) and is_ascending([key for key, text in value])
 
 
 def is_text(value, least, most):

@@ -3,24 +3,30 @@
 import copy
 import unittest
 
+from splitscar.backups import Backup
 from splitscar.before import before, count_before, is_before
 from splitscar.betweencheck import shows_way
 from splitscar.commits import entry_of
 from splitscar.deeds import is_deed
 from splitscar.entries import is_entry, is_row
 from splitscar.errors import (
-    InvalidDeed, InvalidKey, InvalidMost, InvalidRule, InvalidText, InvalidTree, InvalidValue, NoKey, NoPage, NotWritten,
-    WrongStep,
+    InvalidDeed, InvalidJob, InvalidKey, InvalidMost, InvalidRule, InvalidText, InvalidTree, InvalidValue, NoHand, NoKey,
+    NoPage, NotWritten, WrongStep,
 )
+from splitscar.falls import falls
 from splitscar.faults import shows_fault
+from splitscar.hands import Crew, is_job
 from splitscar.images import empty_file, is_image
 from splitscar.leads import shows_grown
 from splitscar.levels import is_levels, leaf_for, spot_of
+from splitscar.logged import LoggedStore
 from splitscar.media import Media
 from splitscar.ordercheck import shows_order
 from splitscar.reader import read_file, read_levels
+from splitscar.recovery import recovery_right
 from splitscar.rules import Rule
 from splitscar.scans import records_in, value_of
+from splitscar.serial import is_serial
 from splitscar.shapes import is_shape, pages_below
 from splitscar.store import GuardedStore, assign_most
 from splitscar.trees import Tree
@@ -32,6 +38,9 @@ TREE = Tree.grown(RULE, 1, 2, 3)
 SHAPE = (((2,), (2, 1)), ())
 STORE = GuardedStore(RULE)
 MEDIA = Media.blank()
+LOGGED = LoggedStore(RULE)
+BACKUP = Backup(LOGGED)
+CREW = Crew(STORE, [("get", 1)])
 
 
 def nested(value, depth):
@@ -66,6 +75,13 @@ WHETHER = {
     "in a store": lambda value: value in STORE,
     "equal stores": lambda value: STORE == value,
     "equal media": lambda value: MEDIA == value,
+    "recovery_right": lambda value: recovery_right(MEDIA, value),
+    "is_job": lambda value: is_job(value),
+    "is_serial": lambda value: is_serial((), value),
+    "a row of a turn": lambda value: is_serial((), (value,)),
+    "rows of a commit": lambda value: is_serial((), (("commit", 0, ("strike range", 1, 2), 1, value),)),
+    "equal crews": lambda value: CREW == value,
+    "equal backups": lambda value: BACKUP == value,
 }
 
 REFUSING = {
@@ -93,6 +109,14 @@ REFUSING = {
     "wrote": (lambda value: MEDIA.wrote(value), WrongStep),
     "flushed": (lambda value: MEDIA.flushed(value), WrongStep),
     "damaged": (lambda value: MEDIA.damaged(value), NotWritten),
+    "fall in a write": (lambda value: list(falls(MEDIA, ("write", value))), WrongStep),
+    "fall in a flush": (lambda value: list(falls(MEDIA, ("flush", value))), WrongStep),
+    "flush": (lambda value: LOGGED.flush(value), WrongStep),
+    "fetch": (lambda value: BACKUP.fetch(value), NotWritten),
+    "a job": (lambda value: Crew(STORE, [value]), InvalidJob),
+    "job": (lambda value: CREW.job(value), NoHand),
+    "turn": (lambda value: CREW.turn(value), NoHand),
+    "run": (lambda value: list(CREW.run((value,))), NoHand),
 }
 
 
@@ -118,6 +142,7 @@ class AnyValues(unittest.TestCase):
         self.assertEqual(TREE, Tree.grown(RULE, 1, 2, 3))
         self.assertEqual(STORE, GuardedStore(RULE))
         self.assertEqual(MEDIA, Media.blank())
+        self.assertEqual((LOGGED.media, BACKUP.missing, CREW.rows), (Media.blank(), (0, 1, 2), ()))
 
     def test_bounds_of_which_none_is_none(self):
         refusing = [

@@ -7,7 +7,9 @@ import pathlib
 import unittest
 
 from splitscar.before import before
+from splitscar.falls import falls
 from splitscar.faults import faults
+from splitscar.hands import Crew
 from splitscar.images import tree_pages
 from splitscar.ripeness import ripe_pages
 from splitscar.scans import records_in
@@ -55,10 +57,16 @@ FUNCTIONS = {
         "surely_struck": "tree",
     },
     "store": {"assign_most": "store value"},
+    "falls": {"falls": "media step"},
+    "recovery": {"recovered": "media", "mended": "media", "recovery_right": "media value"},
+    "hands": {"is_job": "value"},
+    "serial": {"serial_fault": "records rows", "table_after": "records rows", "is_serial": "records rows"},
+    "backups": {"restored": "backup entries * upto"},
 }
 
 DEFAULTS = {
     ("between", "way_between"): [500], ("between", "count_ways"): [500], ("scans", "records_in"): [None, None],
+    ("backups", "restored"): [(), None],
 }
 
 CLASSES = {
@@ -98,9 +106,27 @@ CLASSES = {
             "__repr__": "self",
         },
     },
+    "logged": {
+        "LoggedStore": {
+            "__init__": "self rule", "of": "cls rule file", "media": "self", "entries": "self", "flush": "self *pages",
+            "checkpoint": "self", "recover": "cls rule media",
+        },
+    },
+    "hands": {
+        "Crew": {
+            "__init__": "self store *hands", "store": "self", "rows": "self", "is_done": "self", "ready": "self",
+            "job": "self hand", "held": "self hand", "wanted": "self hand", "blockers": "self hand",
+            "ended": "self hand", "turn": "self hand", "run": "self numbers", "__len__": "self", "__repr__": "self",
+        },
+    },
+    "backups": {
+        "Backup": {
+            "__init__": "self store", "started": "self", "missing": "self", "fetch": "self *pages", "finish": "self",
+        },
+    },
 }
 
-NO_PROPERTIES = ("mirrored", "walk", "rebuild", "twin", "trial", "cut", "checkpoint")
+NO_PROPERTIES = ("mirrored", "walk", "rebuild", "twin", "trial", "cut", "checkpoint", "finish")
 
 
 def arguments_of(node):
@@ -149,7 +175,7 @@ class Interface(unittest.TestCase):
                         self.assertIsInstance(inspect.getattr_static(made, method), property, (name, method))
 
     def test_generators(self):
-        for work in (Tree.walk, ripe_pages, faults, before, tree_pages, records_in, Store.scan):
+        for work in (Tree.walk, ripe_pages, faults, before, tree_pages, records_in, Store.scan, falls, Crew.run):
             self.assertTrue(inspect.isgeneratorfunction(work))
 
 

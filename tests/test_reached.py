@@ -33,6 +33,7 @@ class Package:
     def __init__(self, files):
         self.parts = []
         self.sources = {}
+        self.bases = {}
         for file, tree in files:
             for node in tree.body:
                 if isinstance(node, ast.FunctionDef):
@@ -41,6 +42,7 @@ class Package:
                     for name in node.names:
                         self.sources[file, name.name] = node.module.rpartition(".")[2]
                 if isinstance(node, ast.ClassDef):
+                    self.bases[node.name] = [base.id for base in node.bases]
                     self.parts += [Part(file, node.name, item) for item in node.body if isinstance(item, ast.FunctionDef)]
 
     def roots(self):
@@ -65,8 +67,19 @@ class Package:
             elif isinstance(node, ast.Attribute):
                 # An attribute may be called: then it is any method of this name, otherwise a property of it.
                 found += [other for other in self.parts if other.owner and other.node.name == node.attr
-                          and isinstance(node.ctx, ast.Load) and other is not part]
+                          and isinstance(node.ctx, ast.Load) and other is not part
+                          and self.may_be_of(part.owner, node.value, other.owner)]
         return found
+
+    def may_be_of(self, owner, value, other):
+        """Whether an attribute of a value, read in a class, can be that of another class."""
+        if isinstance(value, ast.Name) and value.id[0].isupper():
+            return other == value.id
+        if isinstance(value, ast.Name) and value.id == "cls":
+            return owner == other or other in self.bases[owner] or owner in self.bases[other]
+        if isinstance(value, ast.Call) and isinstance(value.func, ast.Name) and value.func.id == "super":
+            return other in self.bases[owner]
+        return True
 
     def reached(self):
         """All parts that a property or an operator runs, each with the one through which it was found."""
