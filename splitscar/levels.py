@@ -124,3 +124,9 @@ def ghosts_of(levels):
     leaves = levels[-1][1:]
     between = separators_of(levels)
     return tuple([at + 1 for at, leaf in enumerate(leaves) if between[at] not in leaf])
+
+
+def ghost_keys(levels):
+    """The ascending tuple of the separators that are ghosts."""
+    between = separators_of(levels)
+    return tuple([between[leaf - 1] for leaf in ghosts_of(levels)])

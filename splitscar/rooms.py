@@ -51,11 +51,20 @@ def check_history(rule, shape, rooms):
     for leaf, room in enumerate(rooms):
         if base_of(rule, sizes, leaf) > room:
             raise NoRoom(leaf)
+    bad = bad_faults(rule, shape, rooms)
+    if bad:
+        raise NoHistory(bad[0])
+
+
+def bad_faults(rule, shape, rooms):
+    """The list of the faults that show that no deeds of keys lead to levels with this shape and these rooms."""
+    sizes = shape[0]
     able = able_rows(rule, sizes, rooms)
-    for level, page, word in faults(rule, shape):
-        if level < len(sizes) - 1:
-            if word != "lead" or not able_leads(rule, sizes, able, level, page):
-                raise NoHistory((level, page, word))
+    return [
+        (level, page, word)
+        for level, page, word in faults(rule, shape)
+        if level < len(sizes) - 1 and (word != "lead" or not able_leads(rule, sizes, able, level, page))
+    ]
 
 
 def checked_shape(tree):

@@ -8,27 +8,33 @@ from splitscar.before import before, count_before, is_before
 from splitscar.betweencheck import shows_way
 from splitscar.commits import entry_of
 from splitscar.deeds import is_deed
+from splitscar.desk import Desk
 from splitscar.entries import is_entry, is_row
 from splitscar.errors import (
-    InvalidDeed, InvalidJob, InvalidKey, InvalidMost, InvalidRule, InvalidText, InvalidTree, InvalidValue, NoHand, NoKey,
-    NoPage, NotWritten, WrongStep,
+    InvalidDeed, InvalidEvent, InvalidJob, InvalidKey, InvalidMost, InvalidRow, InvalidRule, InvalidStart, InvalidText,
+    InvalidTree, InvalidValue, NoHand, NoKey, NoPage, NotSound, NotWritten, UnknownCommand, WrongStep,
 )
+from splitscar.evidence import Evidence
 from splitscar.falls import falls
 from splitscar.faults import shows_fault
+from splitscar.filecheck import is_sound, leaf_pages, tree_of
 from splitscar.hands import Crew, is_job
 from splitscar.images import empty_file, is_image
 from splitscar.leads import shows_grown
 from splitscar.levels import is_levels, leaf_for, spot_of
 from splitscar.logged import LoggedStore
 from splitscar.media import Media
+from splitscar.missing import Missing
+from splitscar.missingcheck import shows_missing
 from splitscar.ordercheck import shows_order
 from splitscar.reader import read_file, read_levels
 from splitscar.recovery import recovery_right
+from splitscar.roomcheck import played_keys, shows_strikes
 from splitscar.rules import Rule
 from splitscar.scans import records_in, value_of
 from splitscar.serial import is_serial
 from splitscar.shapes import is_shape, pages_below
-from splitscar.store import GuardedStore, assign_most
+from splitscar.store import GuardedStore, Store, assign_most
 from splitscar.trees import Tree
 
 from tests.helpers import ODD_VALUES, same
@@ -41,6 +47,11 @@ MEDIA = Media.blank()
 LOGGED = LoggedStore(RULE)
 BACKUP = Backup(LOGGED)
 CREW = Crew(STORE, [("get", 1)])
+EVIDENCE = Evidence(RULE, empty_file())
+SECOND = Store(RULE)
+SECOND.put(1, "a")
+MISSING = Missing(RULE, SECOND.file, ())
+DESK = Desk()
 
 
 def nested(value, depth):
@@ -82,6 +93,21 @@ WHETHER = {
     "rows of a commit": lambda value: is_serial((), (("commit", 0, ("strike range", 1, 2), 1, value),)),
     "equal crews": lambda value: CREW == value,
     "equal backups": lambda value: BACKUP == value,
+    "is_sound": lambda value: is_sound(RULE, value),
+    "shows_strikes": lambda value: shows_strikes(TREE, value),
+    "fewest strikes": lambda value: shows_strikes(TREE, ("fewest", value, value)),
+    "rows of strikes": lambda value: shows_strikes(TREE, ("fewest", (("put", 1), ("put", 2), ("put", 3)), value)),
+    "shows": lambda value: EVIDENCE.shows(value),
+    "shows an order": lambda value: EVIDENCE.shows(("order", value)),
+    "shows a table": lambda value: EVIDENCE.shows(("grown", value)),
+    "shows a fault": lambda value: EVIDENCE.shows(("ungrown", value)),
+    "equal evidences": lambda value: EVIDENCE == value,
+    "in missing": lambda value: value in MISSING,
+    "shows_missing": lambda value: shows_missing(MISSING, value),
+    "gaps": lambda value: shows_missing(MISSING, (value, ())),
+    "rows of missing strikes": lambda value: shows_missing(MISSING, ((), value)),
+    "equal missing": lambda value: MISSING == value,
+    "equal desks": lambda value: DESK == value,
 }
 
 REFUSING = {
@@ -117,6 +143,15 @@ REFUSING = {
     "job": (lambda value: CREW.job(value), NoHand),
     "turn": (lambda value: CREW.turn(value), NoHand),
     "run": (lambda value: list(CREW.run((value,))), NoHand),
+    "tree_of": (lambda value: tree_of(RULE, value), NotSound),
+    "leaf_pages": (lambda value: leaf_pages(RULE, value), NotSound),
+    "Evidence": (lambda value: Evidence(RULE, value), NotSound),
+    "a file of Missing": (lambda value: Missing(RULE, value, ()), NotSound),
+    "a row of Missing": (lambda value: Missing(RULE, SECOND.file, (value,)), InvalidRow),
+    "item of Missing": (lambda value: MISSING[value], NoKey),
+    "played_keys": (lambda value: played_keys(RULE, (value,)), InvalidEvent),
+    "say": (lambda value: DESK.say(value), UnknownCommand),
+    "say_all": (lambda value: DESK.say_all("put 1 =", value), UnknownCommand),
 }
 
 
@@ -143,6 +178,7 @@ class AnyValues(unittest.TestCase):
         self.assertEqual(STORE, GuardedStore(RULE))
         self.assertEqual(MEDIA, Media.blank())
         self.assertEqual((LOGGED.media, BACKUP.missing, CREW.rows), (Media.blank(), (0, 1, 2), ()))
+        self.assertEqual((len(MISSING), DESK.say("size")), (1, "0 3 0"))
 
     def test_bounds_of_which_none_is_none(self):
         refusing = [
@@ -151,10 +187,11 @@ class AnyValues(unittest.TestCase):
             (lambda value: assign_most(STORE, value), InvalidMost),
             (lambda value: GuardedStore(RULE, most=value), InvalidMost),
             (lambda value: STORE.put(1, value), InvalidValue),
+            (lambda value: Missing(RULE, SECOND.file, (), start=value), InvalidStart),
         ]
         for work, error in refusing:
             for value in VALUES:
-                if value is None or type(value) is int or type(value) is str and len(value) < 41 and "\n" not in value:
+                if value is None or type(value) is tuple and value == () or type(value) is int or type(value) is str and len(value) < 41 and "\n" not in value:
                     continue
                 before_it = copy.deepcopy(value)
                 with self.assertRaises(error):

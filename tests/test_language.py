@@ -197,6 +197,7 @@ class Names(unittest.TestCase):
             stored |= {node.arg for node in ast.walk(tree) if isinstance(node, ast.arg)}
             stored |= {node.name for node in ast.walk(tree) if isinstance(node, (ast.FunctionDef, ast.ClassDef))}
             stored |= {part.name for node in tree.body if isinstance(node, ast.ImportFrom) for part in node.names}
+            stored |= {node.name for node in ast.walk(tree) if isinstance(node, ast.ExceptHandler)}
             for node in ast.walk(tree):
                 if isinstance(node, ast.Name) and node.id not in stored:
                     self.assertIn(node.id, BUILTINS, (path, node.lineno))

@@ -63,7 +63,9 @@ class Package:
                 source = self.sources.get((part.file, node.id), part.file)
                 found += [other for other in self.parts if other.file == source and other.owner is None
                           and other.node.name == node.id]
-                found += [other for other in self.parts if other.owner == node.id and other.node.name == "__init__"]
+            elif isinstance(node, ast.Call) and isinstance(node.func, ast.Name):
+                made = part.owner if node.func.id == "cls" else node.func.id
+                found += [other for other in self.parts if other.owner == made and other.node.name == "__init__"]
             elif isinstance(node, ast.Attribute):
                 # An attribute may be called: then it is any method of this name, otherwise a property of it.
                 found += [other for other in self.parts if other.owner and other.node.name == node.attr
