@@ -160,7 +160,7 @@ class Crew:
         """Whether a hand has a job and would not wait in its next turn."""
         return self.job(hand) is not None and not self.blockers(hand)
 
-    def worker(self, hand):
+    def worker_of(self, hand):
         """The hand with this number; any value may be asked for."""
         if not is_index(hand, len(self._workers)):
             raise NoHand(hand)
@@ -168,30 +168,30 @@ class Crew:
 
     def job(self, hand):
         """The present job of a hand, or None."""
-        return self.worker(hand).present()
+        return self.worker_of(hand).present()
 
     def held(self, hand):
         """The pages that a hand holds, in the order in which it took them."""
-        return tuple(self.worker(hand).latched)
+        return tuple(self.worker_of(hand).latched)
 
     def wanted(self, hand):
         """The page that a hand wants, or None."""
-        return self.worker(hand).wanted_page(self._store.file)
+        return self.worker_of(hand).wanted_page(self._store.file)
 
     def blockers(self, hand):
         """The other hands because of which a hand would wait, ascending."""
-        worker = self.worker(hand)
+        worker = self.worker_of(hand)
         page = self.wanted(hand)
         others = [(number, other) for number, other in enumerate(self._workers) if number != hand]
         return tuple([number for number, other in others if worker.is_hindered(other, page)])
 
     def ended(self, hand):
         """The last rows of the ended jobs of a hand."""
-        return tuple(self.worker(hand).ends)
+        return tuple(self.worker_of(hand).ends)
 
     def turn(self, hand):
         """A hand makes its turn; returns the row."""
-        row = self.turned(hand, self.worker(hand))
+        row = self.turned(hand, self.worker_of(hand))
         self._rows.append(row)
         return row
 

@@ -117,8 +117,10 @@ class Media:
 
     def with_torn_pages(self, pages):
         """The media with torn images of these pages, which need not be written before."""
-        torn = {page: TORN for page in pages}
-        return Media({**self._pages, **torn}, self._base, self._log, self._latest)
+        images = dict(self._pages)
+        for page in pages:
+            images[page] = TORN
+        return Media(images, self._base, self._log, self._latest)
 
     def with_torn_log(self):
         """The media with the torn part of an entry at the end of the log."""

@@ -80,21 +80,20 @@ def leads_to(tree, value):
 def sum_of_rows(rule, sizes, leaf_pairs, value):
     """The sum of the counts of any value that is a tuple of rows by these needs and prices of the leaves, or None.
 
-    No two rows need the same strikes: each leaf and each page is in one row at most, and no leaf in two cones.
+    No two rows need the same strikes: each leaf is in one row at most, and no leaf in two cones. So each page is
+    in one row at most, too.
     """
     if not isinstance(value, tuple) or not all([is_count_row(row) for row in value]):
         return None
-    leaves = [row[1] for row in value if row[0] == "leaf"]
-    pages = [row[1:3] for row in value if row[0] == "lead"]
-    if len(set(leaves)) < len(leaves) or len(set(pages)) < len(pages):
-        return None
-    cones = []
+    met = {"leaf": [], "lead": []}
     for row in value:
         cone = cone_of_row(rule, sizes, row)
         if row[-1] > most_of_row(leaf_pairs, row, cone):
             return None
-        cones.extend(cone if row[0] == "lead" else [])
-    return sum([row[-1] for row in value]) if len(set(cones)) == len(cones) else None
+        met[row[0]].extend(cone)
+    if not all([len(set(leaves)) == len(leaves) for leaves in (met["leaf"], met["lead"])]):
+        return None
+    return sum([row[-1] for row in value])
 
 
 def is_count_row(value):

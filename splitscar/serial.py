@@ -27,7 +27,7 @@ def is_turn(value):
         return is_question(value[2]) and is_answer(value[2], value[3])
     if word == "commit":
         return is_deed(value[2]) and is_number(value[3]) and value[3] > 0 and are_keys(value[4])
-    return word == "idle" or (is_deed(value[2]) and isinstance(value[3], str) and value[3] in REFUSALS)
+    return word == "idle" or (is_deed(value[2]) and value[3] in REFUSALS)
 
 
 def is_answer(job, value):
@@ -142,8 +142,7 @@ class Course:
     def follow_commit(self, deed, number, struck):
         """Goes on behind a commit row."""
         self._number = number
-        for key in struck:
-            del self._values[key]
+        self._values = {key: value for key, value in self._values.items() if key not in struck}
         if deed[0] == "put":
             self._values[deed[1]] = deed[2]
         for hand in range(MOST_HANDS):

@@ -461,6 +461,11 @@ class Shown(unittest.TestCase):
             for row in every:
                 self.check(missing, rule, sizes, gaps, pairs, ((), (row,)))
             self.check(missing, rule, sizes, gaps, pairs, ((), tuple(every)))
+            # Of rows that fit each for itself, those about one leaf do not fit together.
+            fit = [row for row in every if self.check(missing, rule, sizes, gaps, pairs, ((), (row,))) is not None]
+            for row in fit:
+                for other in fit:
+                    self.check(missing, rule, sizes, gaps, pairs, ((), (row, other)))
         self.assertGreater(bent, 300)
 
     def test_bools_are_no_numbers(self):
@@ -471,7 +476,7 @@ class Shown(unittest.TestCase):
         self.assertEqual(missing.puts, ((0, 0, 3), (1, 0, 3)))
         self.assertIs(shows_missing(missing, (((1, "put", 0, 3),), ())), True)
         for gap in [(True, "put", 0, 3), (1, "put", False, 3), (0, "put", False, 3), (1, "put", 0, "3"), ([1], "put", 0, 3),
-                    (1, ["put"], 0, 3), (1, None, 0, 3)]:
+                    (1, ["put"], 0, 3), (1, None, 0, 3), (1, "put", 0, [3]), (1, "put", [0], 3)]:
             self.assertIs(shows_missing(missing, ((gap,), ())), False)
             self.assertIsNone(sure_by(missing, ((gap,), ())))
 

@@ -1,14 +1,14 @@
 import random
 import unittest
 
-from splitscar.errors import InvalidEvent, NoHistory, NoRoom, TooLong
+from splitscar.errors import InvalidEvent, NoHistory, NoRoom
 from splitscar.roomcheck import played_keys, shows_strikes
 from splitscar.rooms import fewest_strikes, least_deeds, rooms_of, strike_rows
 from splitscar.rules import Rule
 from splitscar.shapes import shape_of
 from splitscar.trees import Tree
 
-from tests.check_models import model_played, model_shows_strikes
+from tests.check_models import model_cone, model_played, model_shows_strikes
 from tests.helpers import BIG, NO_KEYS, ODD_VALUES, RULES, same, struck_levels
 from tests.shape_models import model_asked
 from tests.test_rooms import dense_trees, model_rooms, old_trees
@@ -196,6 +196,54 @@ class Shows(unittest.TestCase):
                 met += len(asked) > 1
         return met
 
+    def test_two_rows_about_one_leaf(self):
+        """Counts that fit each for itself, and whose sum is right, but whose cones share a leaf."""
+        met = {True: 0, False: 0}
+        for numbers in [(3, 1, 2, 2), (4, 2, 3, 3), (1, 3, 2, 2), (3, 2, 4, 2)]:
+            for seed in range(12):
+                tree = Tree(Rule(*numbers), struck_levels(Rule(*numbers), seed, 90, 68))
+                sizes, deeds, rows = shape_of(tree.levels)[0], least_deeds(tree), strike_rows(tree)
+                asked = [(level, page) for level in range(len(sizes) - 1) for page in range(len(sizes[level]))
+                         if model_asked(tree.rule, sizes, level, page)]
+                cones = {place: set(model_cone(tree.rule, sizes, *place)) for place in asked}
+                for row in rows:
+                    for place in asked:
+                        if row[0] == "lead" and place != row[1:3] and cones[place] & cones[row[1:3]]:
+                            rest = tuple(other for other in rows if other != row)
+                            for count in range(1, row[3] + 1):
+                                less = (row[:3] + (row[3] - count,),) if row[3] > count else ()
+                                value = ("fewest", deeds, rest + less + (("lead", *place, count),))
+                                met[self.check(tree, value)] += 1
+        self.assertGreater(min(met.values()), 2)
+
+    def test_other_counts_with_the_same_sum(self):
+        met = 0
+        for tree in list(dense_trees())[::2] + list(old_trees())[::9]:
+            paper = self.paper(tree)
+            if paper[0] != "fewest" or not paper[2]:
+                continue
+            deeds, rows = paper[1:]
+            sizes = shape_of(tree.levels)[0]
+            last, rest = rows[-1], rows[:-1]
+            # A count of 0 or below, a bool, a leaf or a page that there is not.
+            for other in (("leaf", 0, 0), ("leaf", len(sizes[-1]), 0), ("leaf", 0, False)):
+                self.check(tree, ("fewest", deeds, rows + (other,)), False)
+            self.check(tree, ("fewest", deeds, rest + (last[:-1] + (last[-1] + 1,), ("leaf", 0, -1))), False)
+            if last[-1] == 1:
+                self.check(tree, ("fewest", deeds, rest + (last[:-1] + (True,),)), False)
+            for other in [("leaf", -1), ("leaf", len(sizes[-1])), ("lead", -1, 0), ("lead", 0, -1),
+                          ("lead", len(sizes) - 1, 0), ("lead", len(sizes), 0), ("lead", 0, len(sizes[0]))]:
+                self.check(tree, ("fewest", deeds, rest + (other + last[-1:],)), False)
+            for at, row in enumerate(rest[:5]):
+                met += 1
+                more, less = row[:-1] + (row[-1] + 1,), last[:-1] + (last[-1] - 1,)
+                others = rest[:at] + rest[at + 1:] + (more,) + ((less,) if less[-1] else ())
+                self.check(tree, ("fewest", deeds, others))
+                fewer = row[:-1] + (row[-1] - 1,)
+                others = rest[:at] + rest[at + 1:] + (last[:-1] + (last[-1] + 1,),) + ((fewer,) if fewer[-1] else ())
+                self.check(tree, ("fewest", deeds, others))
+        self.assertGreater(met, 30)
+
     def test_a_lead_without_a_price(self):
         # No leaf of the cone has room for two keys, so no count fits; the levels have no history at all.
         leaves = ((1, 2), (5,), (7,), (8,), (9,))
@@ -230,20 +278,21 @@ class Shows(unittest.TestCase):
             self.check(close, ("room", value), type(value) is int and value == 1)
             self.check(close, ("fault", value), False)
 
-    def test_fewer_than_600_deeds(self):
-        tree = Tree.grown(SMALL, 1, 2, 3)
-        extra = (("put", 9), ("strike", 9))
+    def test_at_most_600_deeds(self):
+        # Each leaf gets one key, and each key that is struck leaves a ghost.
+        rule = Rule(1, 1, 8, 8)
+        full = Tree.grown(rule, *range(301))
+        puts = tuple(("put", key) for key in range(301))
+        for struck in (0, 1, 298, 299, 300):
+            keys = range(1, struck + 1)
+            tree, deeds = full, puts + tuple(("strike", key) for key in keys)
+            for key in keys:
+                tree = tree - key
+            self.assertEqual(fewest_strikes(tree), struck)
+            self.check(tree, ("fewest", deeds, strike_rows(tree)), len(deeds) <= 600)
+        small, deeds = Tree.grown(SMALL, 1, 2, 3), tuple(("put", key) for key in (1, 2, 3))
         for times in (0, 1, 298, 299):
-            deeds = tuple(("put", key) for key in (1, 2, 3)) + (("put", 4), ("strike", 4)) * times
-            self.check(tree, ("fewest", deeds, ()), times == 0)
-        # 600 deeds may be, 601 not. Rows need as many strikes, so a tree with so many is asked.
-        wide = Tree(Rule(1, 1, 4, 4), struck_levels(Rule(1, 1, 4, 4), 3, 200, 199))
-        try:
-            deeds = least_deeds(wide)
-            self.check(wide, ("fewest", deeds, strike_rows(wide)), True)
-            self.check(wide, ("fewest", deeds + extra * 300, strike_rows(wide)), False)
-        except TooLong:
-            self.fail("the tree has fewer deeds")
+            self.check(small, ("fewest", deeds + (("put", 4), ("strike", 4)) * times, ()), times == 0)
 
     def test_any_values(self):
         tree = Tree.grown(SMALL, 1, 2, 3) - 3
