@@ -88,15 +88,15 @@ class Course:
             return "get"
         return None if self.end_fits(hand, job, told) else "scan"
 
-    def read_fits(self, hand, scan, pairs):
-        """Whether a hand can have read these pairs behind its reads."""
+    def read_fits(self, hand, asked, pairs):
+        """Whether a hand can have read these pairs for a scan behind its reads."""
         reads = self._reads[hand]
-        if reads is not None and reads.asked != scan:
+        if reads is not None and reads.asked != asked:
             return False
         earlier = () if reads is None else reads.pairs
         if not is_ascending([key for key, value in earlier[-1:] + pairs]):
             return False
-        return all([scan[1] <= key <= scan[2] and self._values.get(key) == value for key, value in pairs])
+        return all([asked[1] <= key <= asked[2] and self._values.get(key) == value for key, value in pairs])
 
     def struck_fit(self, deed, struck):
         """Whether a commit strikes just these keys."""
@@ -132,10 +132,10 @@ class Course:
         if name in ("told", "commit", "refused"):
             self._reads[row[1]] = None
 
-    def follow_read(self, hand, scan, pairs):
+    def follow_read(self, hand, asked, pairs):
         """Goes on behind a read row."""
         if self._reads[hand] is None:
-            self._reads[hand] = Reads(scan, self.keys_from(scan[1], scan[2]))
+            self._reads[hand] = Reads(asked, self.keys_from(asked[1], asked[2]))
         reads = self._reads[hand]
         reads.pairs = reads.pairs + pairs
 

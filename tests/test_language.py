@@ -279,6 +279,48 @@ class Code(unittest.TestCase):
                 if isinstance(node, ast.Attribute) and isinstance(node.ctx, ast.Store):
                     self.assertNotIn(node.attr, methods, (path, node.lineno))
 
+    def test_names_of_class_methods_and_properties(self):
+        """No name is that of a class method, of a property and of a plain method, whatever the classes."""
+        kinds = {}
+        for path, _, tree in parsed():
+            for node in ast.walk(tree):
+                if isinstance(node, ast.ClassDef):
+                    for item in node.body:
+                        if isinstance(item, ast.FunctionDef):
+                            names = [getattr(part, "id", "property") for part in item.decorator_list]
+                            kinds.setdefault(item.name, set()).add(names[0] if names else "plain")
+                        elif isinstance(item, ast.Assign):
+                            kinds.setdefault(item.targets[0].id, set()).add("value")
+                if isinstance(node, ast.Attribute) and isinstance(node.ctx, ast.Store):
+                    kinds.setdefault(node.attr, set()).add("attribute")
+        for name, found in kinds.items():
+            if name != "most":
+                self.assertEqual(len(found), 1, (name, found))
+        self.assertEqual(kinds["most"], {"property", "attribute"})
+
+    def test_calls_with_stars(self):
+        """Behind a star stand names, attributes and literals, and a call or a literal has one star at most."""
+        for path, _, tree in parsed():
+            for node in ast.walk(tree):
+                if isinstance(node, ast.Starred):
+                    self.assertIsInstance(node.value, (ast.Name, ast.Attribute, ast.Tuple, ast.List), (path, node.lineno))
+                if isinstance(node, ast.Call):
+                    self.assertLessEqual(sum(isinstance(part, ast.Starred) for part in node.args), 1, (path, node.lineno))
+                if isinstance(node, ast.Dict):
+                    self.assertLessEqual(node.keys.count(None), 1, (path, node.lineno))
+
+    def test_nothing_is_deleted_and_nothing_added_in_place(self):
+        for path, _, tree in parsed():
+            for node in ast.walk(tree):
+                self.assertNotIsInstance(node, (ast.AugAssign, ast.Delete), (path, getattr(node, "lineno", None)))
+
+    def test_handlers_name_own_errors(self):
+        own = {node.name for _, _, tree in parsed() for node in ast.walk(tree) if isinstance(node, ast.ClassDef)}
+        for path, _, tree in parsed():
+            for node in ast.walk(tree):
+                if isinstance(node, ast.ExceptHandler):
+                    self.assertIn(node.type.id, own, (path, node.lineno))
+
     def test_default_values_are_plain(self):
         for path, _, tree in parsed():
             for node in ast.walk(tree):
