@@ -360,6 +360,7 @@ class Open(unittest.TestCase):
         self.invalid("open " + good + " /", 2, 2)
         self.invalid("open / " + good, 0, 0)
         self.invalid("open /", 0, 0)
+        self.invalid("open free /", 0, 1)
         self.invalid("open head 2 0 /  / leaf -", 1, 0)
         self.invalid("open head 2 0 / / leaf -", 1, 0)
         self.invalid("open head 2 / space 3 0", 0, 2)

@@ -2,10 +2,12 @@ import itertools
 import random
 import unittest
 
+from splitscar.backups import Backup, restored
 from splitscar.errors import InvalidHands, InvalidJob, NoHand
 from splitscar.hands import Crew, is_job
 from splitscar.images import path_to
 from splitscar.logged import LoggedStore
+from splitscar.recovery import recovered
 from splitscar.rules import Rule
 from splitscar.serial import serial_fault, table_after
 from splitscar.store import CountingStore, GuardedStore, Store
@@ -202,6 +204,28 @@ class Schedules(unittest.TestCase):
                 self.assertEqual(store.last[2], row[4])
         self.assertEqual(store.file, crew.store.file)
         self.assertEqual([crew.held(hand) for hand in range(len(crew))], [()] * len(crew))
+
+    def test_flushes_checkpoints_and_backups_between_turns(self):
+        """They do not touch the file, so the hands go on as if there were none."""
+        for number, rule in enumerate(RULES):
+            rng, first, crew, model = self.drawn(rule, LoggedStore, 900 + number)
+            store, files = crew.store, {crew.store.commit: crew.store.file}
+            backup = Backup(store)
+            while not crew.is_done:
+                hand = rng.choice(crew.ready)
+                self.assertTrue(same(crew.turn(hand), model.turn(hand)))
+                files[store.commit] = store.file
+                if store.media.dirty and rng.random() < 0.4:
+                    store.flush(rng.choice(store.media.dirty))
+                if rng.random() < 0.1:
+                    store.checkpoint()
+                if backup.missing:
+                    backup.fetch(rng.choice(backup.missing))
+                self.held(crew, model)
+                self.assertEqual(recovered(store.media), store.file)
+            self.ended_well(first, crew)
+            backup.fetch()
+            self.assertEqual(restored(backup.finish()), files[store.commit])
 
     def test_only_ready_hands(self):
         for number, rule in enumerate(RULES):
